@@ -3,9 +3,11 @@
 package calls
 
 import (
+	"cmp"
 	"math"
 	"math/rand/v2"
 	"reflect"
+	"slices"
 	"strings"
 	"testing"
 
@@ -14,7 +16,7 @@ import (
 	"modillion/worker"
 )
 
-const tries = 300
+const tries = 1000
 
 // TestCalls: none panics; with an error all else is the zero value; what is
 // handed in stays as it is; the same arguments have the same answer.
@@ -134,9 +136,20 @@ func arguments(f any, seed uint64) []reflect.Value {
 	return l
 }
 
-// some is some value of a type: mostly one that may not be.
+// some is some value of a type: mostly one that may not be, but for graphs, jobs
+// and vertices, without which most calls would get no further than them.
 func some(r *rand.Rand, t reflect.Type) reflect.Value {
 	v := reflect.New(t).Elem()
+	if r.IntN(4) > 0 {
+		switch t {
+		case reflect.TypeFor[api.Graph]():
+			return reflect.ValueOf(someGraph(r))
+		case reflect.TypeFor[api.Job]():
+			return reflect.ValueOf(someJob(r))
+		case reflect.TypeFor[api.Vertex]():
+			return reflect.ValueOf(someVertex(r))
+		}
+	}
 	switch t.Kind() {
 	case reflect.Int, reflect.Int64:
 		v.SetInt(pick[int64](r, 0, 0, 1, 1, 2, 3, 63, 64, 65, -1, -2, 1<<16, 1<<20, 1<<30, 1<<31, 1<<50, 1<<50+1, -1<<50-1, math.MaxInt64, math.MinInt64))
@@ -164,6 +177,30 @@ func some(r *rand.Rand, t reflect.Type) reflect.Value {
 	return v
 }
 
+// someGraph is one that may be, its edges in no order, and some in its spare room.
+func someGraph(r *rand.Rand) api.Graph {
+	n := pick(r, 1, 2, 3, 4, 64)
+	var l []api.Edge
+	for i := range pick(r, 0, 1, 3, n, 2*n) {
+		l = append(l, api.Edge{From: i * 7 % n, To: (i + i/n) % n, Weight: pick[int64](r, 0, 1, 5, api.MaxWeight)})
+	}
+	slices.SortFunc(l, func(a, b api.Edge) int { return cmp.Or(cmp.Compare(a.From, b.From), cmp.Compare(a.To, b.To)) })
+	l = slices.CompactFunc(l, func(a, b api.Edge) bool { return a.From == b.From && a.To == b.To })
+	r.Shuffle(len(l), func(i, j int) { l[i], l[j] = l[j], l[i] })
+	return api.Graph{N: n, Edges: l}
+}
+
+// someJob is one that may be on a graph that has its source.
+func someJob(r *rand.Rand) api.Job {
+	return api.Job{Tag: pick(r, "max", "label", "sssp", "bfs", "degree", "rank", "walks"), Source: pick(r, 0, 0, 0, 1, 2, 63), Steps: pick(r, 1, 2, 3, 4, 64)}
+}
+
+// someVertex is one that may be on a graph that has it.
+func someVertex(r *rand.Rand) api.Vertex {
+	value := func() int64 { return pick[int64](r, 0, 1, -1, 7, api.MaxValue, -api.MaxValue) }
+	return api.Vertex{ID: pick(r, 0, 0, 0, 1, 2, 63), Value: value(), Active: pick(r, false, true), Has: pick(r, false, true), In: value()}
+}
+
 // list is n values of a slice's type, and some more in its spare room.
 func list(r *rand.Rand, t reflect.Type, n int) reflect.Value {
 	room := n + r.IntN(3)
@@ -179,7 +216,7 @@ func pick[T any](r *rand.Rand, l ...T) T {
 }
 
 var texts = []string{
-	"", "a", "hi", "max", "sssp", "bfs", "rank", "lose", "reply", "open", "crash",
+	"", "a", "hi", "max", "label", "sssp", "bfs", "degree", "rank", "walks", "lose", "reply", "open", "crash",
 	"graph 2\nedge 0 1 5\n", "graph 2\nedge 0 1", "graph 0\n", "graph", "\n", "é",
 	"\x00", "\x01", "\x01a", "\xac\x02", "\x53\x00\x01", "\x80", strings.Repeat("\xff", 20),
 	strings.Repeat("0", 64), strings.Repeat("A", 64), strings.Repeat("z", 65537),
