@@ -136,8 +136,8 @@ func arguments(f any, seed uint64) []reflect.Value {
 	return l
 }
 
-// some is some value of a type: mostly one that may not be, but for graphs, jobs
-// and vertices, without which most calls would get no further than them.
+// some is some value of a type: mostly one that may not be, but for graphs, jobs,
+// vertices and messages, without which most calls would get no further than them.
 func some(r *rand.Rand, t reflect.Type) reflect.Value {
 	v := reflect.New(t).Elem()
 	if r.IntN(4) > 0 {
@@ -148,6 +148,8 @@ func some(r *rand.Rand, t reflect.Type) reflect.Value {
 			return reflect.ValueOf(someJob(r))
 		case reflect.TypeFor[api.Vertex]():
 			return reflect.ValueOf(someVertex(r))
+		case reflect.TypeFor[api.Msg]():
+			return reflect.ValueOf(someMsg(r))
 		}
 	}
 	switch t.Kind() {
@@ -199,6 +201,11 @@ func someJob(r *rand.Rand) api.Job {
 func someVertex(r *rand.Rand) api.Vertex {
 	value := func() int64 { return pick[int64](r, 0, 1, -1, 7, api.MaxValue, -api.MaxValue) }
 	return api.Vertex{ID: pick(r, 0, 0, 0, 1, 2, 63), Value: value(), Active: pick(r, false, true), Has: pick(r, false, true), In: value()}
+}
+
+// someMsg is one that may be sent along a graph that has such an edge.
+func someMsg(r *rand.Rand) api.Msg {
+	return api.Msg{From: pick(r, 0, 0, 0, 1, 2, 63), To: pick(r, 0, 1, 1, 1, 2, 63), Val: pick[int64](r, 0, 1, -1, 7, api.MaxValue, -api.MaxValue)}
 }
 
 // list is n values of a slice's type, and some more in its spare room.
