@@ -72,6 +72,9 @@ func beside(name string, told []reflect.Value) string {
 		if name == "graph.Read" && i == 1 && e == api.ErrGraphLine {
 			continue // chapter 5 tells a line beside this error
 		}
+		if name == "seq.Run" && i == 1 && e == api.ErrProgFlow {
+			continue // chapter 9 tells how many steps were done ahead of this error
+		}
 		if !v.IsZero() && !(v.Kind() == reflect.Slice && v.Len() == 0) {
 			return "more than an error"
 		}
@@ -148,6 +151,8 @@ func some(r *rand.Rand, t reflect.Type) reflect.Value {
 			return reflect.ValueOf(someJob(r))
 		case reflect.TypeFor[api.Vertex]():
 			return reflect.ValueOf(someVertex(r))
+		case reflect.TypeFor[[]api.Vertex]():
+			return reflect.ValueOf(someVertices(r))
 		case reflect.TypeFor[api.Msg]():
 			return reflect.ValueOf(someMsg(r))
 		}
@@ -201,6 +206,18 @@ func someJob(r *rand.Rand) api.Job {
 func someVertex(r *rand.Rand) api.Vertex {
 	value := func() int64 { return pick[int64](r, 0, 1, -1, 7, api.MaxValue, -api.MaxValue) }
 	return api.Vertex{ID: pick(r, 0, 0, 0, 1, 2, 63), Value: value(), Active: pick(r, false, true), Has: pick(r, false, true), In: value()}
+}
+
+// someVertices is those of a graph, as they may be, and some in their spare room.
+func someVertices(r *rand.Rand) []api.Vertex {
+	n := pick(r, 1, 2, 3, 4, 64)
+	var l []api.Vertex
+	for v := range n + r.IntN(3) {
+		x := someVertex(r)
+		x.ID = v
+		l = append(l, x)
+	}
+	return l[:n]
 }
 
 // someMsg is one that may be sent along a graph that has such an edge.
