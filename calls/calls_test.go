@@ -243,6 +243,7 @@ var texts = []string{
 	"", "a", "hi", "max", "label", "sssp", "bfs", "degree", "rank", "walks", "lose", "reply", "open", "crash",
 	"graph 2\nedge 0 1 5\n", "graph 2\nedge 0 1", "graph 0\n", "graph", "\n", "é",
 	"\x00", "\x01", "\x01a", "\xac\x02", "\x53\x00\x01", "\x80", strings.Repeat("\xff", 20),
+	"\x00\x00\x00\x00\x00", "\x01\x03\x01\x01\x03", // of vertices
 	strings.Repeat("0", 64), strings.Repeat("A", 64), strings.Repeat("z", 65537),
 }
 
