@@ -155,6 +155,10 @@ func some(r *rand.Rand, t reflect.Type) reflect.Value {
 			return reflect.ValueOf(someVertices(r))
 		case reflect.TypeFor[api.Msg]():
 			return reflect.ValueOf(someMsg(r))
+		case reflect.TypeFor[[]api.Msg]():
+			if r.IntN(3) == 0 {
+				return reflect.ValueOf(someBatch(r))
+			}
 		}
 	}
 	switch t.Kind() {
@@ -225,6 +229,18 @@ func someMsg(r *rand.Rand) api.Msg {
 	return api.Msg{From: pick(r, 0, 0, 0, 1, 2, 63), To: pick(r, 0, 1, 1, 1, 2, 63), Val: pick[int64](r, 0, 1, -1, 7, api.MaxValue, -api.MaxValue)}
 }
 
+// someBatch is messages no two of which have the same From and To, in no order,
+// and some in their spare room.
+func someBatch(r *rand.Rand) []api.Msg {
+	var l []api.Msg
+	for _, v := range r.Perm(pick(r, 1, 2, 9, 64, 600)) {
+		m := someMsg(r)
+		m.From, m.To = v%64, v/64
+		l = append(l, m)
+	}
+	return l[:r.IntN(len(l)+1)]
+}
+
 // list is n values of a slice's type, and some more in its spare room.
 func list(r *rand.Rand, t reflect.Type, n int) reflect.Value {
 	room := n + r.IntN(3)
@@ -244,6 +260,7 @@ var texts = []string{
 	"graph 2\nedge 0 1 5\n", "graph 2\nedge 0 1", "graph 0\n", "graph", "\n", "é",
 	"\x00", "\x01", "\x01a", "\xac\x02", "\x53\x00\x01", "\x80", strings.Repeat("\xff", 20),
 	"\x00\x00\x00\x00\x00", "\x01\x03\x01\x01\x03", // of vertices
+	"\x01\x03\x00\x01\x0a", "\x02\x03\x01\x00\x00\x03\x00\x01\x0a", "\x02\x03\x00\x01\x0a\x03\x01\x00\x00", "\x01\x03\x40\x00\x00", // of messages
 	strings.Repeat("0", 64), strings.Repeat("A", 64), strings.Repeat("z", 65537),
 }
 
