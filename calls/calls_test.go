@@ -140,7 +140,8 @@ func arguments(f any, seed uint64) []reflect.Value {
 }
 
 // some is some value of a type: mostly one that may not be, but for graphs, jobs,
-// vertices and messages, without which most calls would get no further than them.
+// vertices, messages and commitments, without which most calls would get no
+// further than them.
 func some(r *rand.Rand, t reflect.Type) reflect.Value {
 	v := reflect.New(t).Elem()
 	if r.IntN(4) > 0 {
@@ -159,6 +160,8 @@ func some(r *rand.Rand, t reflect.Type) reflect.Value {
 			if r.IntN(3) == 0 {
 				return reflect.ValueOf(someBatch(r))
 			}
+		case reflect.TypeFor[api.Commit]():
+			return reflect.ValueOf(someCommit(r))
 		}
 	}
 	switch t.Kind() {
@@ -241,6 +244,13 @@ func someBatch(r *rand.Rand) []api.Msg {
 	return l[:r.IntN(len(l)+1)]
 }
 
+// someCommit is one that may be, and some sums in the spare room of its Batches.
+func someCommit(r *rand.Rand) api.Commit {
+	n := pick(r, 1, 1, 2, 3, 64)
+	l := list(r, reflect.TypeFor[[]api.Hash](), n).Interface().([]api.Hash)
+	return api.Commit{Worker: pick(r, 0, 1, 2, 63), Step: pick(r, 0, 1, 2, 63), Root: api.Hash{byte(r.IntN(256))}, Batches: l}
+}
+
 // list is n values of a slice's type, and some more in its spare room.
 func list(r *rand.Rand, t reflect.Type, n int) reflect.Value {
 	room := n + r.IntN(3)
@@ -261,6 +271,7 @@ var texts = []string{
 	"\x00", "\x01", "\x01a", "\xac\x02", "\x53\x00\x01", "\x80", strings.Repeat("\xff", 20),
 	"\x00\x00\x00\x00\x00", "\x01\x03\x01\x01\x03", // of vertices
 	"\x01\x03\x00\x01\x0a", "\x02\x03\x01\x00\x00\x03\x00\x01\x0a", "\x02\x03\x00\x01\x0a\x03\x01\x00\x00", "\x01\x03\x40\x00\x00", // of messages
+	"C\x01\x02" + strings.Repeat("r", 32) + "\x01" + strings.Repeat("b", 32), "C\x3f\x3f" + strings.Repeat("r", 32) + "\x02" + strings.Repeat("b", 63), "C\x40\x02" + strings.Repeat("r", 32) + "\x01" + strings.Repeat("b", 32), // of commitments
 	strings.Repeat("0", 64), strings.Repeat("A", 64), strings.Repeat("z", 65537),
 }
 
