@@ -272,6 +272,7 @@ var texts = []string{
 	"\x00\x00\x00\x00\x00", "\x01\x03\x01\x01\x03", // of vertices
 	"\x01\x03\x00\x01\x0a", "\x02\x03\x01\x00\x00\x03\x00\x01\x0a", "\x02\x03\x00\x01\x0a\x03\x01\x00\x00", "\x01\x03\x40\x00\x00", // of messages
 	"C\x01\x02" + strings.Repeat("r", 32) + "\x01" + strings.Repeat("b", 32), "C\x3f\x3f" + strings.Repeat("r", 32) + "\x02" + strings.Repeat("b", 63), "C\x40\x02" + strings.Repeat("r", 32) + "\x01" + strings.Repeat("b", 32), // of commitments
+	"S\x00\x00", "S\x01\x03\x05\x00\x00\x00\x00\x00\x05\x01\x0a\x01\x00\x00\x05\x02\x01\x00\x00\x00", "S\x02\x01\x05\x00\x03\x00\x00\x00", "S\x41\x00", // of workers
 	strings.Repeat("0", 64), strings.Repeat("A", 64), strings.Repeat("z", 65537),
 }
 
@@ -283,7 +284,24 @@ func object(r *rand.Rand, t reflect.Type) reflect.Value {
 	case reflect.TypeFor[*wire.In]():
 		return reflect.ValueOf(wire.NewIn(pick(r, texts...)))
 	}
-	g := api.Graph{N: 3, Edges: []api.Edge{{From: 0, To: 1, Weight: 5}, {From: 1, To: 2, Weight: 7}}}
-	k, _ := worker.New(g, api.Job{Tag: "sssp", Steps: 3}, 2, r.IntN(2))
-	return reflect.ValueOf(k)
+	return reflect.ValueOf(someWorker(r))
+}
+
+// someWorker is one of a job that may be, ahead of its first step, behind some, or
+// behind a Load.
+func someWorker(r *rand.Rand) *worker.Worker {
+	workers := pick(r, 1, 2, 3, 64)
+	g, j, w := someGraph(r), someJob(r), r.IntN(workers)
+	k, e := worker.New(g, j, workers, w)
+	if e != api.OK {
+		g = api.Graph{N: 3, Edges: []api.Edge{{From: 0, To: 1, Weight: 5}, {From: 1, To: 2, Weight: 7}}}
+		k, _ = worker.New(g, api.Job{Tag: "sssp", Steps: 3}, 2, 0)
+	}
+	for at := range pick(r, 0, 0, 1, 2, 3) {
+		k.Do(at, []api.Msg{someMsg(r), someMsg(r)})
+	}
+	if r.IntN(4) == 0 {
+		k.Load(k.Save())
+	}
+	return k
 }
